@@ -1,0 +1,1 @@
+"""Watchbeats: guards on beats, and what a caller who watches can gain."""
