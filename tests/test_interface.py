@@ -1,0 +1,92 @@
+"""The interface: each name is defined in the file under which it is listed, with its arguments."""
+
+import importlib
+import inspect
+
+from tests.checks import Case
+
+FUNCTIONS = {
+    "ratio": ["as_ratio(number)"],
+    "whole": ["divisors(number)", "units(number)"],
+    "differences": ["meetings(one, other)", "differences(lot)"],
+    "evenlots": ["is_even(lot)", "even_count(hours, size)", "even_lots(hours, size)", "squares(prime)",
+                 "told_back(counts)"],
+    "layings": ["starts_of(parts, hours, index)", "lay(target, tiles)", "layings(target, tiles)",
+                "count_layings(target, tiles)"],
+    "partners": ["starts_once(lot)", "count_starts_once(lot)"],
+    "fewest": ["is_enough(lots, needs, starts)", "fewest_starts(lots, needs)"],
+}
+GENERATORS = ["evenlots.even_lots", "evenlots.told_back", "layings.layings", "partners.starts_once",
+              "houses.House.cells", "watches.Watch.unmet"]
+METHODS = {
+    "ratio.Ratio": ["__init__(self, top, under=1)", "over(self, number)", "floor(self)", "ceiling(self)"],
+    "lots.Lot": ["__init__(self, hours, members)", "least_turn(self)", "full(hours)"],
+    "layings.Laying": [],
+    "fewest.Fewest": [],
+    "houses.House": ["__init__(self, hours, gates)", "gate(self, name)", "cells(self)", "__len__(self)"],
+    "beats.Beat": ["__init__(self, house, steps)", "lot(self, gate)"],
+    "crews.Crew": ["__init__(self, beat, starts)", "row(self, gate)", "working(self, start)", "__len__(self)"],
+    "watches.Watch": ["__init__(self, house, rows)", "met(self, gate, *, least=1)", "unmet(self, least)",
+                      "covers(self, other)", "of_lots(house, lots)", "empty(house)"],
+}
+OPERATORS = {
+    "ratio.Ratio": "add radd sub rsub mul rmul floordiv mod pow neg abs bool eq lt le gt ge str",
+    "lots.Lot": "len iter contains eq lshift rshift neg invert or and mul rmul add mod pow",
+    "houses.House": "len eq",
+    "beats.Beat": "getitem lshift eq",
+    "crews.Crew": "len lshift eq",
+    "watches.Watch": "getitem lshift neg mul rmul add eq",
+}
+PROPERTIES = {
+    "ratio.Ratio": ["whole"],
+    "lots.Lot": ["members", "step"],
+    "watches.Watch": ["rows", "step"],
+}
+
+
+def found(path):
+    """What stands under a path of a file and names."""
+    names = path.split(".")
+    place = importlib.import_module("watchbeats." + names[0])
+    for name in names[1:]:
+        place = getattr(place, name)
+    return place
+
+
+class InterfaceTest(Case):
+
+    def test_functions(self):
+        for file, forms in FUNCTIONS.items():
+            for form in forms:
+                function = found(f"{file}.{form.split('(')[0]}")
+                self.assertEqual(function.__module__, f"watchbeats.{file}")
+                self.assertEqual(function.__name__ + str(inspect.signature(function)), form)
+
+    def test_generators(self):
+        for path in GENERATORS:
+            self.assertTrue(inspect.isgeneratorfunction(found(path)), path)
+
+    def test_methods(self):
+        for path, forms in METHODS.items():
+            kind = found(path)
+            self.assertEqual((kind.__module__, kind.__bases__), ("watchbeats." + path.split(".")[0], (object,)))
+            for form in forms:
+                name = form.split("(")[0]
+                self.assertIn(name, vars(kind))
+                self.assertEqual(name + str(inspect.signature(getattr(kind, name))), form)
+
+    def test_operators(self):
+        for path, names in OPERATORS.items():
+            for name in names.split():
+                self.assertIn(f"__{name}__", vars(found(path)))
+
+    def test_properties(self):
+        for path, names in PROPERTIES.items():
+            for name in names:
+                self.assertIsInstance(vars(found(path))[name], property)
+
+    def test_class_values(self):
+        for path, value in {"lots.Lot.MOST": 360, "houses.House.MOST_HOURS": 24, "houses.House.MOST_GATES": 4,
+                            "houses.House.MOST_CELLS": 48, "houses.House.MOST_STAKE": 60,
+                            "watches.Watch.MOST": 96}.items():
+            self.assertEqual(found(path), value)
