@@ -105,6 +105,7 @@ class FormTest(Case):
             for node in nodes(tree, ast.ImportFrom):
                 names = {alias.name for alias in node.names}
                 self.assertEqual([alias.asname for alias in node.names], [None] * len(names))
+                self.assertLessEqual(names, {used.id for used in nodes(tree, ast.Name)})
                 if node.module in LIBRARY:
                     self.assertLessEqual(names, LIBRARY[node.module])
                 else:
@@ -159,6 +160,15 @@ class FormTest(Case):
                     node.body[0].value = ast.Constant(0)
             for node in nodes(tree, ast.Constant):
                 self.assertNotIn("%", str(node.value))
+
+    def test_stars(self):
+        for _, _, tree in files():
+            for node in nodes(tree, ast.Starred):
+                self.assertIsInstance(node.value, ast.Name)
+            calls = [node for node in nodes(tree, ast.Call) if any(isinstance(arg, ast.Starred) for arg in node.args)]
+            self.assertEqual(len(nodes(tree, ast.Starred)), len(calls))
+            for node in calls:
+                self.assertEqual([isinstance(arg, ast.Starred) for arg in node.args].index(True), len(node.args) - 1)
 
     def test_sorted_min_and_max_take_numbers(self):
         for _, _, tree in files():

@@ -74,3 +74,9 @@ def check_new_name(name, names):
 def is_gate(house, gate):
     """True if the number is the index of a gate of the house."""
     return gate >= 0 and gate < len(house)
+
+
+def is_cell(house, cell):
+    """True if the tuple is a cell of the house."""
+    gate, hour = cell
+    return is_gate(house, gate) and hour >= 0 and hour < house.hours

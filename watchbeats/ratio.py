@@ -1,6 +1,6 @@
 """Fractions in lowest terms."""
 
-from math import gcd
+from math import gcd, lcm
 
 from watchbeats.errors import BadNumber, ZeroUnder
 
@@ -132,3 +132,21 @@ def as_ratio(number):
     if isinstance(number, Ratio):
         return number
     return Ratio(number)
+
+
+def over_one(numbers):
+    """The least `under` that serves all the numbers, and the list of their tops above it."""
+    ratios = [as_ratio(number) for number in numbers]
+    under = 1
+    for ratio in ratios:
+        under = lcm(under, ratio.under)
+    return under, [ratio.top * (under // ratio.under) for ratio in ratios]
+
+
+def greatest(ratios):
+    """The greatest of a list of Ratios that is not empty."""
+    most = ratios[0]
+    for ratio in ratios:
+        if ratio > most:
+            most = ratio
+    return most

@@ -2,7 +2,7 @@
 
 from math import gcd
 
-from watchbeats.errors import BadNumber, NoPlace, OtherHours, OtherHouse, SharedFactor, WrongLength
+from watchbeats.errors import BadNumber, NoPlace, OtherHours, OtherHouse, SharedFactor, TooMany, WrongLength
 from watchbeats.houses import is_gate
 from watchbeats.lots import Lot
 from watchbeats.whole import divisors
@@ -64,7 +64,7 @@ class Watch:
 
     def covers(self, other):
         """True if the strength is nowhere below that of the other watch."""
-        _check_house(self, other)
+        check_house(self.house, [other])
         return all([self[gate, hour] >= other[gate, hour] for gate, hour in self.house.cells()])
 
     def __getitem__(self, at):
@@ -105,7 +105,7 @@ class Watch:
         return self * other
 
     def __add__(self, other):
-        _check_house(self, other)
+        check_house(self.house, [other])
         rows = [[one + two for one, two in zip(row, more)] for row, more in zip(self._rows, other._rows)]
         return Watch(self.house, rows)
 
@@ -118,6 +118,16 @@ def _check_row(house, row):
             raise BadNumber("strength", strength)
 
 
-def _check_house(one, other):
-    if one.house != other.house:
-        raise OtherHouse()
+def check_many(watches, most):
+    """Raises BadNumber if there are no watches, and TooMany if there are more than `most`."""
+    if len(watches) == 0:
+        raise BadNumber("watches", 0)
+    if len(watches) > most:
+        raise TooMany("watches", most)
+
+
+def check_house(house, watches):
+    """Raises OtherHouse if some watch is on another house."""
+    for watch in watches:
+        if watch.house != house:
+            raise OtherHouse()
