@@ -15,9 +15,25 @@ FUNCTIONS = {
                 "count_layings(target, tiles)"],
     "partners": ["starts_once(lot)", "count_starts_once(lot)"],
     "fewest": ["is_enough(lots, needs, starts)", "fewest_starts(lots, needs)"],
+    "charts": ["chart(watch)"],
+    "spreads": ["total_tries(house, spread)", "spreads(house, *, tries=1, known=())",
+                "count_spreads(cells, *, tries=1)"],
+    "losses": ["loss(watch, spread)"],
+    "best": ["best_spread(watches, weights, *, tries=1, known=())"],
+    "posts": ["postings(house, guards)", "count_postings(gates, guards)"],
+    "duels": ["duel(rows)", "closes(rows, worth, shares_one, shares_two)"],
+    "pasts": ["total_looks(house, past)", "fits(watch, past)", "left_of(family, past)", "known_cells(past)",
+              "join_pasts(house, one, two)", "pasts(family, *, looks=0)"],
+    "tables": ["close_table(family, bound, *, tries=1, looks=0)"],
+    "settles": ["settle(family, parts, *, tries=1, looks=0)", "borne(family, bound, *, tries=1)"],
+    "turning": ["turned_bound(watch, *, tries=1, looks=0)"],
+    "orbits": ["close_turns(watches, bound, *, tries=1, looks=0)"],
+    "floors": ["no_look_bound(house, lots)", "one_look_bound(house, lots)",
+               "floor_bound(hours, size, stake, *, looks=0)", "best_lots(hours, size)",
+               "best_starts(beat, guards, *, tries=1, looks=0)"],
 }
 GENERATORS = ["evenlots.even_lots", "evenlots.told_back", "layings.layings", "partners.starts_once",
-              "houses.House.cells", "watches.Watch.unmet"]
+              "houses.House.cells", "watches.Watch.unmet", "spreads.spreads", "posts.postings", "pasts.pasts"]
 METHODS = {
     "ratio.Ratio": ["__init__(self, top, under=1)", "over(self, number)", "floor(self)", "ceiling(self)"],
     "lots.Lot": ["__init__(self, hours, members)", "least_turn(self)", "full(hours)"],
@@ -28,6 +44,13 @@ METHODS = {
     "crews.Crew": ["__init__(self, beat, starts)", "row(self, gate)", "working(self, start)", "__len__(self)"],
     "watches.Watch": ["__init__(self, house, rows)", "met(self, gate, *, least=1)", "unmet(self, least)",
                       "covers(self, other)", "of_lots(house, lots)", "empty(house)"],
+    "plans.Plan": ["__init__(self, house, *crews)", "watch(self)", "without(self, index)", "sole(self, index)"],
+    "best.Best": ["gain(self, i, x)", "most_from(self, i, left)"],
+    "duels.Duel": [],
+    "families.Family": ["__init__(self, house, watches)", "kinds(self)", "turns(watch)", "__len__(self)"],
+    "tables.Table": ["gap(self, past, spread)", "gain_on(self, index)", "narrowest(self)"],
+    "turning.Turned": [],
+    "orbits.TurnTable": [],
 }
 OPERATORS = {
     "ratio.Ratio": "add radd sub rsub mul rmul floordiv mod pow neg abs bool eq lt le gt ge str",
@@ -36,11 +59,17 @@ OPERATORS = {
     "beats.Beat": "getitem lshift eq",
     "crews.Crew": "len lshift eq",
     "watches.Watch": "getitem lshift neg mul rmul add eq",
+    "plans.Plan": "lshift add eq",
+    "families.Family": "len iter getitem contains add lshift eq",
 }
 PROPERTIES = {
     "ratio.Ratio": ["whole"],
     "lots.Lot": ["members", "step"],
     "watches.Watch": ["rows", "step"],
+    "plans.Plan": ["guards"],
+    "families.Family": ["goes_round"],
+    "tables.Table": ["held"],
+    "orbits.TurnTable": ["held"],
 }
 
 
@@ -88,5 +117,5 @@ class InterfaceTest(Case):
     def test_class_values(self):
         for path, value in {"lots.Lot.MOST": 360, "houses.House.MOST_HOURS": 24, "houses.House.MOST_GATES": 4,
                             "houses.House.MOST_CELLS": 48, "houses.House.MOST_STAKE": 60,
-                            "watches.Watch.MOST": 96}.items():
+                            "watches.Watch.MOST": 96, "families.Family.MOST": 8}.items():
             self.assertEqual(found(path), value)
