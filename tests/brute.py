@@ -106,3 +106,11 @@ def turned_row(house, past, spread, by):
 
 def chances(seed):
     return random.Random(seed)
+
+
+def drawn_weights(chance, many, most=3):
+    """Weights that add up to 1; some of them can be 0 or whole numbers."""
+    parts = [chance.randint(0, most) for _ in range(many)]
+    parts[chance.randrange(many)] += 1
+    weights = [Ratio(part, sum(parts)) for part in parts]
+    return [weight.top if weight.whole else weight for weight in weights]

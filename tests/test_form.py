@@ -128,8 +128,10 @@ class FormTest(Case):
                 self.assertNotIsInstance(node, BARRED_NODES, getattr(node, "lineno", ""))
             for node in nodes(tree, ast.Constant):
                 self.assertIsInstance(node.value, (int, str, bool, type(None)))
-            for node in nodes(tree, ast.Pow):
-                self.fail("an exponent")
+            for node in nodes(tree, ast.BinOp):
+                if isinstance(node.op, ast.Pow):
+                    self.assertIsInstance(node.left, ast.Constant)
+                    self.assertIn(getattr(node.right, "value", -1), range(65))
             for node in nodes(tree, ast.Compare):
                 if isinstance(node.ops[0], (ast.Is, ast.IsNot)):
                     self.assertIn(getattr(node.comparators[0], "value", 0), (None, True, False))
@@ -139,7 +141,7 @@ class FormTest(Case):
         for _, text, tree in files():
             loaded = {node.id for node in nodes(tree, ast.Name)}
             self.assertLessEqual({name for name in loaded if name in vars(builtins)},
-                                 USED_BUILTINS | {"property", "classmethod", "staticmethod"})
+                                 USED_BUILTINS | {"property", "classmethod", "staticmethod", "super"})
             functions = nodes(tree, ast.FunctionDef)
             defined = {node.name for node in functions + nodes(tree, ast.ClassDef)}
             for name in names_bound(tree) | defined:
@@ -176,7 +178,7 @@ class FormTest(Case):
                 if called(node) in ("sorted", "min", "max"):
                     plain = [arg for arg in node.args if isinstance(arg, ast.Constant)]
                     listed = [arg for arg in node.args if isinstance(arg, ast.ListComp)
-                              and isinstance(arg.elt, ast.Call) and called(arg.elt) in ("int", "len")]
+                              and isinstance(arg.elt, ast.Call) and called(arg.elt) in ("int", "len", "str")]
                     self.assertTrue(plain or listed, ast.unparse(node))
 
     def test_attributes(self):
@@ -228,6 +230,38 @@ class FormTest(Case):
             if "__init__" in functions:
                 self.assertEqual(nodes(functions["__init__"], ast.Return), [])
             for name, function in functions.items():
-                if name.startswith("__") and name != "__init__":
+                if name.startswith("__") and name not in ("__init__", "__enter__", "__exit__"):
                     stored = [node for node in nodes(function, ast.Attribute) if isinstance(node.ctx, ast.Store)]
                     self.assertEqual(stored, [], f"{kind.name}.{name}")
+
+    def test_handlers_catch_own_errors(self):
+        package = Package()
+        errors = {node.name for node in package.classes if node.name == "WatchError" or node.bases}
+        for tree in package.trees:
+            for node in nodes(tree, ast.ExceptHandler):
+                self.assertIn(getattr(node.type, "id", None), errors)
+            for node in nodes(tree, ast.Raise):
+                self.assertIn(called(node.exc) if isinstance(node.exc, ast.Call) else None, errors | {"TypeError"})
+                self.assertTrue(node.cause is None or isinstance(node.cause, ast.Name))
+
+    def test_exits_only_assign_attributes(self):
+        for kind in Package().classes:
+            for function in kind.body:
+                if getattr(function, "name", "") == "__exit__":
+                    self.assertEqual([argument.arg for argument in function.args.args],
+                                     ["self", "kind", "value", "trace"])
+                    for row in function.body:
+                        self.assertIsInstance(row, ast.Assign)
+                        self.assertIsInstance(row.value, ast.Attribute)
+
+    def test_super_calls_a_method_above(self):
+        package = Package()
+        above = {node.name: [base.id for base in node.bases] for node in package.classes}
+        methods = {node.name: {child.name for child in node.body if isinstance(child, ast.FunctionDef)}
+                   for node in package.classes}
+        for node in package.classes:
+            if not set(above[node.name]) & set(above):
+                self.assertEqual([used for used in nodes(node, ast.Name) if used.id == "super"], [])
+            for used in nodes(node, ast.Attribute):
+                if isinstance(used.value, ast.Call) and called(used.value) == "super":
+                    self.assertTrue(any(used.attr in methods.get(base, ()) for base in above[node.name]), used.attr)

@@ -31,6 +31,12 @@ FUNCTIONS = {
     "floors": ["no_look_bound(house, lots)", "one_look_bound(house, lots)",
                "floor_bound(hours, size, stake, *, looks=0)", "best_lots(hours, size)",
                "best_starts(beat, guards, *, tries=1, looks=0)"],
+    "afterwards": ["after(weights, family, past)", "seen_chances(weights, family, cell)",
+                   "mean_loss(weights, family, spread)"],
+    "leaves": ["leaves(family, *, looks=0)"],
+    "asking": ["fixed_cells(family)"],
+    "people": ["man(plan, people)"],
+    "kept": ["tried(kept, deeds)"],
 }
 GENERATORS = ["evenlots.even_lots", "evenlots.told_back", "layings.layings", "partners.starts_once",
               "houses.House.cells", "watches.Watch.unmet", "spreads.spreads", "posts.postings", "pasts.pasts"]
@@ -51,7 +57,16 @@ METHODS = {
     "tables.Table": ["gap(self, past, spread)", "gain_on(self, index)", "narrowest(self)"],
     "turning.Turned": [],
     "orbits.TurnTable": [],
+    "asking.Asking": ["__init__(self, family)", "need(self, indexes)", "next_cell(self, indexes)", "questions(self)"],
+    "people.Manning": [],
+    "tickets.Tickets": ["__init__(self, weights)", "many(self, index)", "ticket(self, number)"],
+    "kept.Kept": ["undo(self)", "redo(self)", "run(self, deeds)", "trial(self)"],
+    "kept.Trial": ["__enter__(self)", "__exit__(self, kind, value, trace)"],
+    "season.Season": ["__init__(self, family, weights, *, bound, tries=1, looks=1)", "draw(self, ticket)",
+                      "look(self, gate, hour)", "attempt(self, spread)", "left(self)", "weights_now(self)",
+                      "worst(self)", "safe(self)"],
 }
+BASES = {"season.Season": "kept.Kept"}
 OPERATORS = {
     "ratio.Ratio": "add radd sub rsub mul rmul floordiv mod pow neg abs bool eq lt le gt ge str",
     "lots.Lot": "len iter contains eq lshift rshift neg invert or and mul rmul add mod pow",
@@ -70,6 +85,9 @@ PROPERTIES = {
     "families.Family": ["goes_round"],
     "tables.Table": ["held"],
     "orbits.TurnTable": ["held"],
+    "people.Manning": ["missing"],
+    "kept.Kept": ["done"],
+    "season.Season": ["standing", "looked", "lost", "draws"],
 }
 
 
@@ -98,7 +116,8 @@ class InterfaceTest(Case):
     def test_methods(self):
         for path, forms in METHODS.items():
             kind = found(path)
-            self.assertEqual((kind.__module__, kind.__bases__), ("watchbeats." + path.split(".")[0], (object,)))
+            base = found(BASES[path]) if path in BASES else object
+            self.assertEqual((kind.__module__, kind.__bases__), ("watchbeats." + path.split(".")[0], (base,)))
             for form in forms:
                 name = form.split("(")[0]
                 self.assertIn(name, vars(kind))

@@ -3,6 +3,7 @@
 from watchbeats.errors import BadNumber, TooMany, WrongLength
 from watchbeats.ratio import Ratio, over_one
 from watchbeats.saddle import Saddle
+from watchbeats.shares import are_shares
 
 _MOST = 12
 
@@ -39,9 +40,10 @@ def closes(rows, worth, shares_one, shares_two):
     """True if these are shares of the rows and of the columns that show this worth."""
     _check(rows)
     columns = [[row[at] for row in rows] for at in range(len(rows[0]))]
-    if not _are_shares(shares_one, len(rows)) or not _are_shares(shares_two, len(columns)):
+    if len(shares_one) != len(rows) or len(shares_two) != len(columns):
         return False
-    return (all([_mean(shares_one, column) >= worth for column in columns])
+    return (are_shares(shares_one) and are_shares(shares_two)
+            and all([_mean(shares_one, column) >= worth for column in columns])
             and all([_mean(shares_two, row) <= worth for row in rows]))
 
 
@@ -57,11 +59,6 @@ def _check(rows):
     for row in rows:
         if len(row) != len(rows[0]):
             raise WrongLength(len(row))
-
-
-def _are_shares(shares, many):
-    """True if there are so many numbers of at least 0 that add up to 1."""
-    return len(shares) == many and all([share >= 0 for share in shares]) and sum(shares) == 1
 
 
 def _mean(shares, numbers):

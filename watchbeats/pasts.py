@@ -1,7 +1,7 @@
 """Pasts: what looks have seen."""
 
 from watchbeats.bits import bits_of, listed
-from watchbeats.errors import BadPast, Contradiction, TooMany
+from watchbeats.errors import BadPast, Contradiction, KnownCell, TooMany
 from watchbeats.houses import is_cell
 from watchbeats.watches import Watch
 from watchbeats.whole import check_number
@@ -70,6 +70,14 @@ def pasts_of(watches, looks):
 def check_looks(looks, most):
     """Raises BadNumber unless the looks are 0 to `most`."""
     check_number("looks", looks, 0, most)
+
+
+def check_open(spread, past):
+    """Raises KnownCell for the first cell of the spread that is a cell of the past."""
+    known = known_cells(past)
+    for gate, hour, tries in spread:
+        if (gate, hour) in known:
+            raise KnownCell((gate, hour))
 
 
 def _pasts_from(cells, first, left, begun, watches):

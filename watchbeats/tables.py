@@ -1,15 +1,15 @@
 """Tables: whether a house can draw within a bound, shown from both sides."""
 
 from watchbeats.closing import Stand, close
-from watchbeats.errors import KnownCell, TooMany
+from watchbeats.errors import TooMany
 from watchbeats.losses import loss
-from watchbeats.pasts import check_looks, fits, known_cells, pasts, total_looks
+from watchbeats.pasts import check_looks, check_open, fits, pasts, total_looks
 from watchbeats.ratio import Ratio, as_ratio
 from watchbeats.spreads import check_tries, total_tries
 
 MOST_TRIES = 3
 MOST_LOOKS = 2
-MOST_CELLS = 16
+_MOST_CELLS = 16
 _MOST_PASTS = 100
 
 
@@ -35,10 +35,7 @@ class Table:
         """The sum of weight times entry for any past and spread."""
         total_looks(self.family.house, past)
         total_tries(self.family.house, spread)
-        known = known_cells(past)
-        for gate, hour, tries in spread:
-            if (gate, hour) in known:
-                raise KnownCell((gate, hour))
+        check_open(spread, past)
         total = Ratio(0)
         for weight, watch in zip(self.weights, self.family):
             total = total + weight * self._entry(watch, past, spread)
@@ -80,8 +77,13 @@ def check_limits(house, tries, looks):
     """Checks the tries, the looks and the cells of a table."""
     check_tries(tries, MOST_TRIES)
     check_looks(looks, MOST_LOOKS)
-    if house.hours * len(house) > MOST_CELLS:
-        raise TooMany("cells", MOST_CELLS)
+    check_cells(house)
+
+
+def check_cells(house):
+    """Raises TooMany if the house has too many cells for a table."""
+    if house.hours * len(house) > _MOST_CELLS:
+        raise TooMany("cells", _MOST_CELLS)
 
 
 def check_pasts(seen):

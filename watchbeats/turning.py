@@ -1,11 +1,10 @@
 """Turning: the least bound of a watch that is turned round the ring by chance."""
 
-from watchbeats.errors import TooMany
 from watchbeats.pasts import check_looks, fits, pasts_of
 from watchbeats.ratio import Ratio
 from watchbeats.sights import Sight
 from watchbeats.spreads import check_tries
-from watchbeats.tables import MOST_CELLS, MOST_LOOKS, MOST_TRIES
+from watchbeats.tables import MOST_LOOKS, MOST_TRIES, check_cells
 
 
 class Turned:
@@ -22,8 +21,8 @@ def turned_bound(watch, *, tries=1, looks=0):
     """The Turned of a watch."""
     check_tries(tries, MOST_TRIES)
     check_looks(looks, MOST_LOOKS)
-    if looks == MOST_LOOKS and watch.house.hours * len(watch.house) > MOST_CELLS:
-        raise TooMany("cells", MOST_CELLS)
+    if looks == MOST_LOOKS:
+        check_cells(watch.house)
     turns = all_turns(watch)
     # Who stays at home gains nothing.
     bound = Ratio(0)
