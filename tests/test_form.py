@@ -13,7 +13,8 @@ USED_BUILTINS = set("""len range enumerate zip min max sum abs sorted reversed i
 LIBRARY = {"math": {"gcd", "lcm", "isqrt", "comb", "perm", "factorial"}}
 METHODS_OF_VALUES = set("""append clear copy count endswith extend find get index insert isalnum isalpha isdigit islower
     isspace isupper items join keys ljust lower lstrip partition pop remove replace reverse rfind rjust rpartition
-    rsplit rstrip setdefault split splitlines startswith strip update upper values zfill bit_length""".split())
+    rsplit rstrip setdefault split splitlines startswith strip update upper values zfill bit_length
+    removeprefix removesuffix""".split())
 OPERATORS = set("""lt le gt ge ne add sub mul floordiv mod pow and or xor lshift rshift radd rsub rmul iadd neg pos
     invert abs bool contains getitem setitem init eq repr str len enter exit call iter""".split())
 BARRED_WORDS = re.compile(r"\b(type|typing|enum|Enum|Flag|Generic|Protocol|ABC|namedtuple|NamedTuple|overload|"
@@ -176,7 +177,8 @@ class FormTest(Case):
         for _, _, tree in files():
             for node in nodes(tree, ast.Call):
                 if called(node) in ("sorted", "min", "max"):
-                    plain = [arg for arg in node.args if isinstance(arg, ast.Constant)]
+                    plain = [arg for arg in node.args if isinstance(arg, ast.Constant)
+                             or isinstance(arg, ast.Call) and called(arg) == "int"]
                     listed = [arg for arg in node.args if isinstance(arg, ast.ListComp)
                               and isinstance(arg.elt, ast.Call) and called(arg.elt) in ("int", "len", "str")]
                     self.assertTrue(plain or listed, ast.unparse(node))
@@ -242,7 +244,7 @@ class FormTest(Case):
                 self.assertIn(getattr(node.type, "id", None), errors)
             for node in nodes(tree, ast.Raise):
                 self.assertIn(called(node.exc) if isinstance(node.exc, ast.Call) else None, errors | {"TypeError"})
-                self.assertTrue(node.cause is None or isinstance(node.cause, ast.Name))
+                self.assertTrue(node.cause is None or isinstance(node.cause, ast.Name) or node.cause.value is None)
 
     def test_exits_only_assign_attributes(self):
         for kind in Package().classes:

@@ -37,6 +37,11 @@ FUNCTIONS = {
     "asking": ["fixed_cells(family)"],
     "people": ["man(plan, people)"],
     "kept": ["tried(kept, deeds)"],
+    "stretches": ["common(one, other, by)", "bends(one, other)"],
+    "great": ["great_bound(great, *, looks=0)"],
+    "words": ["write_number(number)", "write_lot(lot)", "write_spread(house, spread)", "write_past(house, past)",
+              "read_number(text)", "read_lot(text)", "read_spread(house, text)", "read_past(house, text)"],
+    "texts": ["write_book(book)", "read_book(text)"],
 }
 GENERATORS = ["evenlots.even_lots", "evenlots.told_back", "layings.layings", "partners.starts_once",
               "houses.House.cells", "watches.Watch.unmet", "spreads.spreads", "posts.postings", "pasts.pasts"]
@@ -65,8 +70,16 @@ METHODS = {
     "season.Season": ["__init__(self, family, weights, *, bound, tries=1, looks=1)", "draw(self, ticket)",
                       "look(self, gate, hour)", "attempt(self, spread)", "left(self)", "weights_now(self)",
                       "worst(self)", "safe(self)"],
+    "roster.Roster": ["__init__(self, plan, people)", "manning(self)", "away(self, name)", "back(self, name)",
+                      "allow(self, name, lot)", "put(self, crew)", "strike(self, index)"],
+    "stretches.Stretches": ["__init__(self, hours, stretches)", "listed(self)"],
+    "great.GreatWatch": ["__init__(self, hours, stakes, rows)", "listed(self)"],
+    "great.GreatBound": [],
+    "books.Book": ["__init__(self, house)", "add_beat(self, name, beat)", "beat_named(self, name)",
+                   "set_plan(self, name, plan)", "drop(self, name)", "copied(self)", "__len__(self)"],
+    "desk.Desk": ["__init__(self, book)", "book(self)", "run(self, lines)"],
 }
-BASES = {"season.Season": "kept.Kept"}
+BASES = {"season.Season": "kept.Kept", "roster.Roster": "kept.Kept"}
 OPERATORS = {
     "ratio.Ratio": "add radd sub rsub mul rmul floordiv mod pow neg abs bool eq lt le gt ge str",
     "lots.Lot": "len iter contains eq lshift rshift neg invert or and mul rmul add mod pow",
@@ -76,6 +89,9 @@ OPERATORS = {
     "watches.Watch": "getitem lshift neg mul rmul add eq",
     "plans.Plan": "lshift add eq",
     "families.Family": "len iter getitem contains add lshift eq",
+    "roster.Roster": "iadd",
+    "stretches.Stretches": "contains lshift invert mul eq",
+    "books.Book": "getitem setitem len iter contains eq",
 }
 PROPERTIES = {
     "ratio.Ratio": ["whole"],
@@ -88,6 +104,10 @@ PROPERTIES = {
     "people.Manning": ["missing"],
     "kept.Kept": ["done"],
     "season.Season": ["standing", "looked", "lost", "draws"],
+    "roster.Roster": ["plan", "present", "missing"],
+    "stretches.Stretches": ["pieces", "size"],
+    "great.GreatWatch": ["lots"],
+    "books.Book": ["beat_names"],
 }
 
 
@@ -136,5 +156,6 @@ class InterfaceTest(Case):
     def test_class_values(self):
         for path, value in {"lots.Lot.MOST": 360, "houses.House.MOST_HOURS": 24, "houses.House.MOST_GATES": 4,
                             "houses.House.MOST_CELLS": 48, "houses.House.MOST_STAKE": 60,
-                            "watches.Watch.MOST": 96, "families.Family.MOST": 8}.items():
+                            "watches.Watch.MOST": 96, "families.Family.MOST": 8,
+                            "stretches.Stretches.MOST": 6}.items():
             self.assertEqual(found(path), value)
