@@ -9,7 +9,7 @@ from watchbeats.great import GreatBound, GreatWatch, great_bound
 from watchbeats.houses import House
 from watchbeats.lots import Lot
 from watchbeats.ratio import Ratio
-from watchbeats.stretches import Stretches, common
+from watchbeats.stretches import Stretches, bends, common
 from watchbeats.turning import turned_bound
 from watchbeats.watches import Watch
 
@@ -139,8 +139,10 @@ class GreatBoundTest(Case):
         self.assertEqual(great_bound(GreatWatch(1, [6, 2], [full, none]), looks=1).bound, 2)
 
     def test_great_ring(self):
-        half = Stretches(GREAT, [(0, GREAT // 2)])
-        self.assertEqual(great_bound(GreatWatch(GREAT, [4], [half])).bound, 2)
+        half = Stretches(10 ** 40, [(0, 5 * 10 ** 39)])
+        self.assertEqual([common(half, half, 1), len(bends(half, half))],
+                         [4999999999999999999999999999999999999999, 2])
+        self.assertEqual(str(great_bound(GreatWatch(10 ** 40, [4], [half])).bound), "2")
         self.assertEqual(great_bound(GreatWatch(GREAT, [4], [half]), looks=1).bound, 4)
         # Three hours in a row have no guard; whoever sees one of them tries the next one.
         gap = Stretches(GREAT, [(1, GREAT - 3)])

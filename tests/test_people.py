@@ -1,9 +1,7 @@
 """Point 48: people who walk the guards of a plan."""
 
-import itertools
-
 from tests.brute import chances
-from tests.checks import HUGE, Case
+from tests.checks import Case
 from watchbeats.beats import Beat
 from watchbeats.crews import Crew
 from watchbeats.errors import BadName, OtherHours, RepeatedName, TooMany

@@ -153,6 +153,9 @@ class ReadTest(Case):
         self.assertEqual(book["p"], Plan(house, Crew(walk, Lot(2, [0, 1])), Crew(walk, Lot(2, []))))
         self.assertEqual(book["p"].watch().rows, [[1, 1]])
 
+    def test_an_unknown_beat(self):
+        self.raises(BadText, {"line": 3}, read_book, "hours 2\ngate a 3\nplan p walk 0")
+
     def test_where_the_text_can_end(self):
         lines = LONG.split("\n")
         for many in range(len(lines) + 1):

@@ -13,12 +13,9 @@ class Duty:
         self.crew_plan = crew_plan
         self.staff = staff
         self.absent = absent
+        self.staff_here = [(name, lot) for name, lot in staff if name not in absent]
         # Kept here because a property is only to read; this also refuses what cannot be manned.
-        self.unmanned = man(crew_plan, self.staff_here()).missing
-
-    def staff_here(self):
-        """Those of the staff who are not away."""
-        return [(name, lot) for name, lot in self.staff if name not in self.absent]
+        self.unmanned = man(crew_plan, self.staff_here).missing
 
     def place_of(self, name):
         """The index of the person with this name."""
@@ -42,7 +39,7 @@ class Roster(Kept):
     @property
     def present(self):
         """The list of the names of those who are not away."""
-        return [name for name, lot in self._history.state.staff_here()]
+        return [name for name, lot in self._history.state.staff_here]
 
     @property
     def missing(self):
@@ -51,7 +48,7 @@ class Roster(Kept):
 
     def manning(self):
         """The Manning of the plan now by the people present."""
-        return man(self.plan, self._history.state.staff_here())
+        return man(self.plan, self._history.state.staff_here)
 
     def away(self, name):
         """The person is away from now on."""

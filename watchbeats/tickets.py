@@ -16,7 +16,9 @@ class Tickets:
         if len(weights) > _MOST_WEIGHTS:
             raise TooMany("weights", _MOST_WEIGHTS)
         check_shares(weights)
-        self.total, self._tickets_each = over_one(weights)
+        total, tops = over_one(weights)
+        self.total = total
+        self._tickets_each = tops
 
     def many(self, index):
         """The number of tickets of an index."""
